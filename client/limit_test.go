@@ -208,27 +208,17 @@ func TestAnswersAreNewMemory(t *testing.T) {
 	wantDoc(t, "P11.10: and goes on as before", c, "xa", 2, ins(2, 'b', 1, 2), del(2, 1, 3))
 }
 
-func spoilElems(list []api.Elem) {
-	list = append(list, api.Elem{Ch: '!'})
-	list = list[:cap(list)]
-	for i := range list {
-		list[i] = api.Elem{Ch: '?', Client: 9, Seq: 9}
-	}
-}
+func spoilElems(list []api.Elem) { spoil(list, api.Elem{Ch: '?', Client: 9, Seq: 9}) }
 
-func spoilEdits(list []api.Edit) {
-	list = append(list, api.Edit{Tag: 9})
-	list = list[:cap(list)]
-	for i := range list {
-		list[i] = api.Edit{Tag: 9}
-	}
-}
+func spoilEdits(list []api.Edit) { spoil(list, api.Edit{Tag: 9}) }
 
-func spoilOps(list []api.Op) {
-	list = append(list, api.Op{Kind: 9})
+func spoilOps(list []api.Op) { spoil(list, api.Op{Kind: 9}) }
+
+// spoil writes over a list where it lies, and over its spare room: as far as an append could.
+func spoil[T any](list []T, wrong T) {
 	list = list[:cap(list)]
 	for i := range list {
-		list[i] = api.Op{Kind: 9}
+		list[i] = wrong
 	}
 }
 
